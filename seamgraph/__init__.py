@@ -1,0 +1,1 @@
+"""Seamgraph: graph queries over several services."""
