@@ -90,6 +90,14 @@ class FormTest(unittest.TestCase):
             for node in ast.walk(ast.parse(path.read_text())):
                 self.assertNotIsInstance(node, (ast.Global, ast.AsyncFunctionDef, ast.Div), path)
 
+    def test_lists_instead_of_generators(self):
+        # The language asks for this as soon as a class compares.
+        for path in FILES:
+            for node in ast.walk(ast.parse(path.read_text())):
+                self.assertNotIsInstance(node, ast.GeneratorExp, path)
+                if isinstance(node, ast.Attribute):
+                    self.assertNotEqual(node.attr, "sort", path)
+
 
 if __name__ == "__main__":
     unittest.main()
