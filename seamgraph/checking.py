@@ -4,13 +4,14 @@ from seamgraph.merging import merges_hold
 from seamgraph.parts import (
     arguments_of,
     conditions_of,
+    constant_value,
     find_field,
     has_fields,
     selection_of,
     starts_of,
     type_inside,
 )
-from seamgraph.types import SCALARS, base_of, fits, has_list
+from seamgraph.types import SCALARS, base_of, fits_kind, has_list
 
 TRUTH_KIND = ("must", ("name", "Truth"))
 FIRST_RULES = (1, 2)
@@ -187,9 +188,7 @@ def _kind_fits(kind, due):
 
 
 def _constant_fits(constant, kind):
-    if constant == ("null",):
-        return kind[0] != "must"
-    return fits(base_of(kind), constant[1])
+    return fits_kind(kind, constant_value(constant))
 
 
 def _variables_hold(outline):

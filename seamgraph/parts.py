@@ -22,6 +22,11 @@ def selection_of(part):
     return None if part[0] == "spread" else part[-1]
 
 
+def constant_value(constant):
+    """Returns the value of a constant; the one of `null` is None."""
+    return None if constant == ("null",) else constant[1]
+
+
 def find_field(schema, type_name, name):
     """Returns the Field of an object type or union, or None if there is none.
 

@@ -55,6 +55,11 @@ def compose(services):
         holds = RULES[number]
         if not holds(services):
             raise InvalidSchema(number)
+    return schema_of(services)
+
+
+def schema_of(services):
+    """Returns the Schema of a list of services that compose, or of a single one of them."""
     return Schema(_whole_types(services), _whole_keys(services), _whole_unions(services))
 
 

@@ -36,6 +36,16 @@ def fits(scalar, value):
     return False
 
 
+def fits_kind(kind, value):
+    """Returns True if a value fits a type without a list, otherwise False.
+
+    None fits if the type has no `!`.
+    """
+    if value is None:
+        return kind[0] != "must"
+    return fits(base_of(kind), value)
+
+
 def _is_plain(code):
     return FIRST_CODE <= code <= LAST_CODE and code != EXCEPTED_CODE
 
